@@ -1,0 +1,1 @@
+"""Work that never gets stuck: plans, stocks, people and duties, told exactly."""

@@ -1,0 +1,75 @@
+"""The form of the files, and that the interface stands where the document lists it."""
+
+import inspect
+import importlib
+import pathlib
+import unittest
+
+from tests import form
+
+FOLDER = pathlib.Path(__file__).parent.parent / "enoughhands"
+
+INTERFACE = {
+    "plans": {"Plan": "text"},
+    "runs": {"many": "plan", "is_run": "plan value", "nth": "plan number", "number_of": "plan run", "every": "plan",
+             "lots": "plan", "between": "plan one other", "shows_between": "plan one other value"},
+    "pairs": {"word": "plan one other", "words": "plan", "told": "pairs", "shows_told": "pairs value"},
+    "normal": {"normal": "plan", "same": "one other", "shows_same": "one other value", "within_runs": "one other",
+               "shows_within_runs": "one other value"},
+    "parts": {"clusters": "plan", "is_cluster": "plan value", "only": "plan tasks", "put": "plan tasks other",
+              "around": "plan tasks name"},
+}
+METHODS = {"plans": {"Plan": {"chosen": "choice", "next": "done", "rest": "done", "__len__": "", "__eq__": "other",
+                              "__contains__": "value"}}}
+
+
+class Form(unittest.TestCase):
+
+    def test_rules(self):
+        texts = {}
+        for path in sorted(FOLDER.glob("*.py")):
+            name = "enoughhands" if path.stem == "__init__" else f"enoughhands.{path.stem}"
+            texts[name] = path.read_text(encoding="utf-8")
+        self.assertGreater(len(texts), 10)
+        self.assertEqual(form.wrong(texts), [])
+
+    def test_nothing_else_in_the_folder(self):
+        found = [path.name for path in FOLDER.iterdir() if path.suffix != ".py" and path.name != "__pycache__"]
+        self.assertEqual(found, [])
+
+    def test_the_rules_find_something(self):
+        for text in ("import os\n", "x = 1.5\n", "def f(n):\n    '''d'''\n    return n / 2\n",
+                     "def f(rows):\n    '''d'''\n    return any(row for row in rows)\n",
+                     "def f(list):\n    '''d'''\n    return list\n",
+                     "def f(n):\n    '''d'''\n    return n is f\n",
+                     "def f(n):\n    '''d'''\n    for one in set(n):\n        n = one\n    return n\n",
+                     "def f(n):\n    '''d'''\n    return hash(n)\n", "x = 1\nx = 2\n",
+                     "from enoughhands.other import g\n",
+                     "def f(n):\n    '''d'''\n    try:\n        n = n[0]\n    except IndexError:\n        n = 1\n"):
+            self.assertTrue(form.wrong({"enoughhands.some": text}), text)
+        self.assertEqual(form.wrong({"enoughhands.some": "def f(n):\n    '''d'''\n    return n + 1\n"}), [])
+
+
+class Interface(unittest.TestCase):
+
+    def test_functions(self):
+        for module, names in INTERFACE.items():
+            home = importlib.import_module(f"enoughhands.{module}")
+            for name, told in names.items():
+                with self.subTest(module, name=name):
+                    thing = getattr(home, name)
+                    self.assertEqual(thing.__module__, f"enoughhands.{module}")
+                    self.assertEqual(list(inspect.signature(thing).parameters), told.split())
+
+    def test_methods(self):
+        for module, kinds in METHODS.items():
+            home = importlib.import_module(f"enoughhands.{module}")
+            for kind, names in kinds.items():
+                for name, told in names.items():
+                    with self.subTest(kind, name=name):
+                        method = vars(getattr(home, kind))[name]
+                        self.assertEqual(list(inspect.signature(method).parameters)[1:], told.split())
+
+
+if __name__ == "__main__":
+    unittest.main()
