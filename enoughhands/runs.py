@@ -82,7 +82,7 @@ def turned_pairs(one, other):
 
 def exchanged(run, at):
     """Return the run with the task at this place, and the next one, exchanged."""
-    return (*run[:at], run[at + 1], run[at], *run[at + 2:])
+    return run[:at] + (run[at + 1], run[at]) + run[at + 2:]
 
 
 def are_neighbours(one, other):

@@ -30,7 +30,8 @@ class Examples(unittest.TestCase):
                 self.assertEqual(result.failed, 0, said)
 
     def test_points(self):
-        self.assertEqual([point for point, text in POINTS], ["11", "12", "13", "14", "15"])
+        self.assertEqual([point for point, text in POINTS], ["11", "12", "13", "14", "15",
+                                                             "21", "22", "23", "24", "25", "31", "32"])
 
 
 if __name__ == "__main__":
