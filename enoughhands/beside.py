@@ -70,9 +70,9 @@ def row_within(one, other):
 
 def shows_row_within(one, other, value):
     """Tell whether any value is what row_within may return."""
-    wanted = row_within(one, other)
-    if wanted is None or value is None:
-        return wanted is None and value is None
+    step = row_within(one, other)
+    if value is None:
+        return step is None
     return is_step(value) and least_beside(one, (value,)) > least_beside(other, (value,))
 
 

@@ -104,7 +104,8 @@ def plain_steps(row):
     base, gain = last_pair(ahead)
     its = last_pair(behind)[0]
     middle = []
-    if lowest > 0 and lowest > base and lowest + together > 0 and lowest + together > its:
+    # Without stairs base and its are 0, so more than these is more than 0, too.
+    if lowest > base and lowest + together > its:
         middle = [(lowest + gain, 0)]
     return tuple(steps_up(ahead) + middle + back_steps(steps_up(behind)))
 

@@ -42,11 +42,11 @@ def last_pair(stairs):
     return stairs[-1] if stairs else (0, 0)
 
 
-def put_pair(found, base, gain):
+def put_pair(found, pair):
     """Put the pair behind the others; of two with one base only the later one stands."""
-    if found and found[-1][0] == base:
+    if found and found[-1][0] == pair[0]:
         found.pop()
-    found.append((base, gain))
+    found.append(pair)
 
 
 def climbs(steps):
@@ -55,16 +55,13 @@ def climbs(steps):
     So many of the first steps come to this gain at this base.
     """
     found = []
-    base = risen = 0
-    best = (0, 0, 0)
+    base = risen = most = 0
     for at, (need, gain) in enumerate(steps):
         base = max(base, need - risen)
         risen += gain
-        if risen > best[1]:
-            if best[1] > 0 and best[0] == base:
-                found.pop()
-            best = (base, risen, at + 1)
-            found.append(best)
+        if risen > most:
+            most = risen
+            put_pair(found, (base, most, at + 1))
     return found
 
 
@@ -138,7 +135,7 @@ def both_stairs(one, other):
         else:
             yours = other[its][1]
             its += 1
-        put_pair(found, base, mine + yours)
+        put_pair(found, (base, mine + yours))
     return tuple(found)
 
 

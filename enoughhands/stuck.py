@@ -53,7 +53,7 @@ def shows_never(plan, trade, stock, value):
     """Tell whether any value is what never may return."""
     table = checked_table(trade, stock)
     if not is_said(value, "stuck"):
-        return value == ("never",) and never(plan, trade, stock) == value
+        return value == ("never",) == never(plan, trade, stock)
     done = value[1]
     if not is_beginning(plan, done) or is_over(plan, done) or not is_let(table, stock, done):
         return False

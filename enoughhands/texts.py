@@ -12,9 +12,9 @@ def pieces(text):
     """
     if is_task_name(text):
         return ("task", ())
-    # A plan of eight tasks has seven commas, and no more brackets than these:
-    # without this bound a long text could lead too deep.
-    if not isinstance(text, str) or text.count(",") >= MOST or text.count("(") >= MOST:
+    # Each bracket parts tasks, so a plan of eight tasks has seven at most: without
+    # this bound a long text could lead too deep.
+    if not isinstance(text, str) or text.count("(") >= MOST:
         return None
     word, _, behind = text.partition("(")
     if word not in PLAN_WORDS or not behind.endswith(")"):

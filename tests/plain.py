@@ -308,6 +308,16 @@ def alike(one, other):
     return True
 
 
+def is_stairs(value):
+    """Whether a value is stairs, told at length."""
+    if type(value) is not tuple or not all(
+            type(pair) is tuple and [type(part) for part in pair] == [int, int] for pair in value):
+        return False
+    bases, gains = [pair[0] for pair in value], [pair[1] for pair in value]
+    return (bases == sorted(set(bases)) and gains == sorted(set(gains))
+            and all(base >= 0 for base in bases) and all(gain > 0 for gain in gains))
+
+
 class Raises:
     """For test cases: whether a call raises just this error, with this value."""
 

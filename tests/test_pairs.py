@@ -139,6 +139,12 @@ class Told(plain.Raises, unittest.TestCase):
             self.assertIs(shows_told(RING, value), False, value)
         self.assertIs(shows_told(RING, ("stuck", ("a", "b", "c"))), True)
         self.assertIs(shows_told(RING, ("plan", "then(a,b,c)")), False)
+        more = tuple(sorted(RING + tuple((one, other, "beside") for one, other in itertools.combinations("abcde", 2)
+                                         if other in "de")))
+        for lot in ("abc", "abcd", "abce"):
+            self.assertIs(shows_told(more, ("stuck", tuple(lot))), True)
+        for lot in ("abcde", "ab", "abd", "abde", "abcx"):
+            self.assertIs(shows_told(more, ("stuck", tuple(lot))), False)
         for text in ("beside(b,beside(a,c))", "beside(a,b,c)", "beside(c,b,a)"):
             self.assertIs(shows_told(words(Plan("beside(a,b,c)")), ("plan", text)), True)
         for text in ("beside(a,b)", "beside(a,b,c,d)", "beside(a,b,x)", "then(a,b,c)", "a"):
@@ -152,6 +158,7 @@ class Told(plain.Raises, unittest.TestCase):
             (("a", "b", "ahead"), ("a", "b", "behind")), (("a", "b", "ahead"), ("c", "d", "ahead")),
             (("a", "b", "ahead"), ("a", "c", "ahead")), good[::-1], good + good, list(good), good + (("b", "c", "ahead"),),
             (("a", "b", "ahead"), ("a", "c", "ahead"), ("b", "c", "ahead"), ("b", "c", "beside")),
+            (("a", "b", ["ahead"]),), (("a", "b", {}),), (("a", "b", ("ahead",)),), (("a", ["b"], "ahead"),),
             (("a", "abcdefghi", "ahead"),), (("a", "B", "ahead"),), (("", "b", "ahead"),),
             tuple((one, other, "beside") for one, other in itertools.combinations("abcdefghi", 2))]
         for pairs in bad:

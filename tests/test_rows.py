@@ -24,17 +24,10 @@ def least_stock(text, trade):
 
 def is_row(value):
     """Whether a value is a row, told at length."""
-    def is_stairs(told):
-        if type(told) is not tuple or not all(
-                type(pair) is tuple and [type(part) for part in pair] == [int, int] for pair in told):
-            return False
-        bases, gains = [pair[0] for pair in told], [pair[1] for pair in told]
-        return (bases == sorted(set(bases)) and gains == sorted(set(gains))
-                and all(base >= 0 for base in bases) and all(gain > 0 for gain in gains))
     if type(value) is not tuple or [type(part) for part in value] != [int, int, tuple, tuple]:
         return False
     lowest, net, ahead, behind = value
-    if not is_stairs(ahead) or not is_stairs(behind):
+    if not plain.is_stairs(ahead) or not plain.is_stairs(behind):
         return False
     top, gain = ahead[-1] if ahead else (0, 0)
     end, lost = behind[-1] if behind else (0, 0)

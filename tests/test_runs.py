@@ -125,6 +125,11 @@ class Between(plain.Raises, unittest.TestCase):
         for ways in (("abc", "cba"), ("abc", "bac", "abc", "bac", "bca", "cba"), ("abc", "bac", "cba"), ("abc",), (),
                      ("abc", "abc", "bac", "bca", "cba"), ("abc", "bac", "cab", "cba")):
             self.assertIs(shows_between(plan, one, other, ("rows", tuple(tuple(row) for row in ways))), False)
+        for one, other, ways in (("abc", "bac", ("bca", "bac")), ("abc", "bac", ("abc", "acb")),
+                                 ("abc", "cba", ("abc", "acb", "abc", "cba")),
+                                 ("abc", "cba", ("abc", "cba", "bca", "cba"))):
+            self.assertIs(shows_between(plan, tuple(one), tuple(other), ("rows", tuple(
+                tuple(row) for row in ways))), False)
         bound = Plan("beside(then(a,b),c)")
         self.assertIs(shows_between(bound, tuple("abc"), tuple("cab"), ("rows", tuple(
             tuple(row) for row in ("abc", "acb", "cab")))), True)

@@ -78,20 +78,12 @@ class Steps(plain.Raises, unittest.TestCase):
 
 class Stairs(plain.Raises, unittest.TestCase):
 
-    def is_stairs(self, value):
-        if type(value) is not tuple or not all(
-                type(pair) is tuple and [type(part) for part in pair] == [int, int] for pair in value):
-            return False
-        bases, gains = [pair[0] for pair in value], [pair[1] for pair in value]
-        return (bases == sorted(set(bases)) and gains == sorted(set(gains))
-                and all(base >= 0 for base in bases) and all(gain > 0 for gain in gains))
-
     def test_no_stairs(self):
         bad = [((-1, 1),), ((0, 0),), ((0, -1),), ((1, 1), (1, 2)), ((1, 1), (2, 1)), ((2, 1), (1, 2)), ((1, 2), (2, 1)),
                [(1, 1)], ([1, 1],), ((True, 1),), ((0, True),), ((1,),), ((1, 1, 1),), (1, 1), None, "a", {1: 1},
                ((1, 1), None), (("1", 1),)]
         for value in bad + plain.odd_values(Plan("a")) + plain.near(((0, 1), (3, 4))):
-            if self.is_stairs(value):
+            if plain.is_stairs(value):
                 self.assertEqual(gain_at(value, 10 ** 9), value[-1][1] if value else 0)
                 continue
             self.raises(BadStairs, value, gain_at, value, 0)
@@ -129,7 +121,7 @@ class Stairs(plain.Raises, unittest.TestCase):
         """Both tells the greatest sum to which any way beside one another leads, at each base."""
         for one, other in zip(some_steps(65, 250), some_steps(66, 250)):
             told = both(stairs_of(one), stairs_of(other))
-            self.assertTrue(self.is_stairs(told))
+            self.assertTrue(plain.is_stairs(told))
             for base in range(-2, plain.top(one + other)):
                 self.assertEqual(gain_at(told, base), self.farthest(one, other, base))
 
@@ -154,7 +146,7 @@ class Stairs(plain.Raises, unittest.TestCase):
         for _ in range(400):
             one, other = some_stairs(rng), some_stairs(rng)
             told = both(one, other)
-            self.assertTrue(self.is_stairs(told))
+            self.assertTrue(plain.is_stairs(told))
             self.assertEqual(told, both(other, one))
             for base in range(-3, 12):
                 p = q = 0

@@ -1,0 +1,111 @@
+"""Point 2: equal calls tell the same, whoever made the objects, and nothing that is handed in is changed."""
+
+import copy
+import unittest
+
+from enoughhands import beside, lots, normal, pairs, parts, plans, rows, runs, stairs, stuck, sums, trades
+from enoughhands.errors import HandError
+
+from tests import plain
+
+TRADE = (("a", 2, 1), ("b", 3, -1), ("c", 4, 2), ("d", 4, -4))
+STAIRS, ROW = ((2, 3), (3, 4)), (3, 1, ((2, 3), (3, 4)), ((0, 3),))
+RUNS = (("a", "b", "d"), ("d", "a", "b"))
+
+
+def one():
+    return plans.Plan("beside(then(a,either(b,c)),d)")
+
+
+def two():
+    return plans.Plan("beside(then(a,b),d)")
+
+
+CALLS = [
+    (lambda plan, done: plan.next(done), lambda: (one(), ("a",))),
+    (lambda plan, done: plan.rest(done).text, lambda: (one(), ("a",))),
+    (lambda plan, choice: plan.chosen(choice).text, lambda: (one(), ("a", "b", "d"))),
+    (runs.many, lambda: (one(),)), (runs.every, lambda: (one(),)), (runs.lots, lambda: (one(),)),
+    (runs.nth, lambda: (one(), 3)), (runs.number_of, lambda: (one(), RUNS[0])), (runs.is_run, lambda: (one(), ["a"])),
+    (runs.between, lambda: (one(), *RUNS)), (runs.shows_between, lambda: (one(), *RUNS, ["rows", [RUNS]])),
+    (pairs.word, lambda: (one(), "a", "d")), (pairs.words, lambda: (one(),)), (pairs.told, lambda: (pairs.words(one()),)),
+    (pairs.shows_told, lambda: (pairs.words(one()), ["plan", one().text])),
+    (lambda plan: normal.normal(plan).text, lambda: (one(),)), (normal.same, lambda: (one(), two())),
+    (normal.shows_same, lambda: (one(), two(), ["same"])), (normal.within_runs, lambda: (one(), two())),
+    (normal.shows_within_runs, lambda: (one(), two(), {"more": 1})),
+    (parts.clusters, lambda: (one(),)), (parts.is_cluster, lambda: (one(), ["b", "c"])),
+    (lambda *told: parts.only(*told).text, lambda: (one(), ("a", "c"))),
+    (lambda *told: parts.put(*told).text, lambda: (one(), ("b", "c"), plans.Plan("then(x,y)"))),
+    (lambda *told: parts.around(*told).text, lambda: (one(), ("b", "c"), "x")),
+    (trades.levels, lambda: (TRADE, 9, ("a", "b"))), (trades.least, lambda: (TRADE, ("a", "b"))),
+    (trades.net, lambda: (TRADE, ("a", "b"))), (trades.told_back, lambda: (TRADE,)), (trades.told_back, lambda: ([TRADE],)),
+    (stairs.stairs_of, lambda: (((2, 3), (6, 1)),)), (stairs.steps_back, lambda: (((2, 3), (6, 1)),)),
+    (stairs.steps_by, lambda: (TRADE, ("a", "b"))), (stairs.gain_at, lambda: (STAIRS, 2)),
+    (stairs.no_less, lambda: (STAIRS, ((0, 1),))), (stairs.both, lambda: (STAIRS, STAIRS)),
+    (rows.first, lambda: (one(), TRADE)), (rows.shows_first, lambda: (one(), TRADE, ["first", 1])),
+    (rows.spare, lambda: (one(), TRADE, 50)), (rows.row_of, lambda: (((2, 3), (6, 1)),)), (rows.back, lambda: (ROW,)),
+    (rows.plain_steps, lambda: (ROW,)), (rows.row, lambda: (two(), TRADE)), (rows.best, lambda: (two(), TRADE)),
+    (rows.shows_best, lambda: (two(), TRADE, ["a", "b", "d"])),
+    (sums.then_row, lambda: (ROW, ROW)), (sums.beside_row, lambda: (ROW, ROW)),
+    (sums.row_by, lambda: (two(), (("a", ROW), ("b", ROW), ("d", ROW)))),
+    (beside.first_beside, lambda: (two(), TRADE, 3, -1)), (beside.first_with, lambda: (ROW, ((1, 1),))),
+    (beside.row_within, lambda: (ROW, (3, 1, ((3, 1),), ()))), (beside.shows_row_within, lambda: (ROW, ROW, [1, 2])),
+    (beside.within, lambda: (two(), TRADE, two(), ())), (beside.shows_within, lambda: (two(), (), two(), (), ["within"])),
+    (beside.alike, lambda: (two(), TRADE, two(), ())), (beside.shows_alike, lambda: (two(), (), two(), (), ["alike"])),
+    (lots.reached_lots, lambda: (one(), TRADE, 4)), (lots.safe_lots, lambda: (one(), TRADE, 4)),
+    (lots.guide, lambda: (one(), TRADE, 4)), (lots.traps, lambda: (one(), TRADE, 4)),
+    (lots.room, lambda: (one(), TRADE, 9, ("a",))), (lots.room, lambda: (one(), TRADE, 9, ["a"])),
+    (lots.is_closed, lambda: (one(), TRADE, 4, [()])), (stuck.can, lambda: (one(), TRADE, 4)),
+    (stuck.can, lambda: (one(), TRADE, 0)), (stuck.shows_can, lambda: (one(), TRADE, 4, ["stuck", [()]])),
+    (stuck.never, lambda: (one(), TRADE, 4)), (stuck.shows_never, lambda: (one(), TRADE, 4, ["stuck", ()])),
+    (stuck.sure_stocks, lambda: (one(), TRADE)), (stuck.forced, lambda: (one(), TRADE, 9)),
+    (stuck.forced, lambda: (one(), TRADE, 0)),
+]
+
+
+def told(call, args):
+    """What a call returns, or its error and value."""
+    try:
+        return ("returned", call(*args))
+    except HandError as error:
+        return (type(error).__name__, error.value)
+
+
+class Calls(unittest.TestCase):
+
+    def test_equal_calls(self):
+        for at, (call, make) in enumerate(CALLS):
+            with self.subTest(at):
+                args = make()
+                first = told(call, args)
+                self.assertEqual(told(call, args), first)
+                self.assertEqual(told(call, make()), first)
+
+    def test_nothing_is_changed(self):
+        for at, (call, make) in enumerate(CALLS):
+            with self.subTest(at):
+                args = make()
+                ahead = copy.deepcopy(args)
+                told(call, args)
+                self.assertTrue(plain.alike(args, ahead))
+                for plan in args:
+                    if isinstance(plan, plans.Plan):
+                        same = plans.Plan(plan.text)
+                        self.assertEqual((plan.kind, plan.parts, plan.tasks, plan.choices, plan.is_plain, plan.turned),
+                                         (same.kind, same.parts, same.tasks, same.choices, same.is_plain, same.turned))
+
+    def test_results_are_tuples(self):
+        """No list, set or dict is ever returned, however deep."""
+        def is_plain(value):
+            if isinstance(value, tuple):
+                return all(is_plain(part) for part in value)
+            return value is None or type(value) in (int, str, bool)
+
+        for at, (call, make) in enumerate(CALLS):
+            kind, value = told(call, make())
+            if kind == "returned":
+                self.assertTrue(is_plain(value), (at, value))
+
+
+if __name__ == "__main__":
+    unittest.main()
