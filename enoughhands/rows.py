@@ -159,7 +159,7 @@ def check_plain(plan):
 
 
 def best_row(plan, trade):
-    """Return the row of the best runs of a plain plan, also where something else is called row."""
+    """Return the row of the best runs; the errors for the trade, and for what is not plain."""
     table = trade_table(trade)
     check_plain(plan)
     return row_for(steps_for(table, best_for(plan, table)))

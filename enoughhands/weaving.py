@@ -24,10 +24,10 @@ def add_words(table, plan):
 
 
 def held(task, tasks, table, word):
-    """Return the lot of the tasks that stand with this one, or ahead of it, in a plan of this word.
+    """Return the lot of the tasks that must stand in the part of this one, or in one ahead of it.
 
-    Two of which the first one does not have this word with the other one cannot be
-    parted there with the first one ahead.
+    If a task does not have this word with another one, it cannot stand in a part
+    ahead of that one's, so from each task this leads on to others.
     """
     found = {task: True}
     waiting = [task]
