@@ -38,6 +38,35 @@ def tuples_behind(ways, lot):
     return [(task, *later) for task in ways[lot] for later in tuples_behind(ways, grown(lot, task))]
 
 
+def run_at(ways, many, number):
+    """Return the run with this number; many: what many_behind tells of the ways."""
+    lot = run = ()
+    while ways[lot]:
+        task, number = first_at(lot, ways[lot], many, number)
+        lot = grown(lot, task)
+        run = (*run, task)
+    return run
+
+
+def first_at(lot, tasks, many, number):
+    """Return the task behind the lot with which the run with this number goes on, and its number behind it."""
+    at = 0
+    while number >= many[grown(lot, tasks[at])]:
+        number = number - many[grown(lot, tasks[at])]
+        at += 1
+    return (tasks[at], number)
+
+
+def number_along(ways, many, run):
+    """Return the number of this run, by the ways and what many_behind tells of them."""
+    number = 0
+    lot = ()
+    for task in run:
+        number += sum([many[grown(lot, other)] for other in ways[lot] if other < task])
+        lot = grown(lot, task)
+    return number
+
+
 def late_run(plan, late):
     """Return a run in which this task comes as late as it can (None: any run)."""
     done = ()

@@ -3,7 +3,7 @@
 from enoughhands.checks import is_integer, is_said
 from enoughhands.errors import BadNumber, BadRun, TooMany, Unlike
 from enoughhands.going import is_whole_run
-from enoughhands.paths import grown, many_behind, tuples_behind, ways_of
+from enoughhands.paths import many_behind, number_along, run_at, tuples_behind, ways_of
 
 MOST_TOLD = 200
 
@@ -24,17 +24,7 @@ def nth(plan, number):
     behind = many_behind(ways)
     if not is_integer(number) or not 0 <= number < behind[()]:
         raise BadNumber(number)
-    lot = ()
-    run = []
-    ahead = number
-    while ways[lot]:
-        at = 0
-        while ahead >= behind[grown(lot, ways[lot][at])]:
-            ahead -= behind[grown(lot, ways[lot][at])]
-            at += 1
-        run.append(ways[lot][at])
-        lot = grown(lot, run[-1])
-    return tuple(run)
+    return run_at(ways, behind, number)
 
 
 def number_of(plan, run):
@@ -42,13 +32,7 @@ def number_of(plan, run):
     if not is_run(plan, run):
         raise BadRun(run)
     ways = ways_of(plan)
-    behind = many_behind(ways)
-    number = 0
-    lot = ()
-    for task in run:
-        number += sum([behind[grown(lot, other)] for other in ways[lot] if other < task])
-        lot = grown(lot, task)
-    return number
+    return number_along(ways, many_behind(ways), run)
 
 
 def every(plan):

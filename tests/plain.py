@@ -122,9 +122,11 @@ def all_plans(tasks):
 
 
 def distance(all_runs, one, other):
-    """How many exchanges of two neighbours lead from one run to another one, on runs alone."""
+    """How many exchanges of two neighbours lead from one run to another one, on runs alone (None: none does)."""
     known, wave, steps = {one}, [one], 0
     while other not in known:
+        if not wave:
+            return None
         steps += 1
         wave = [run for run in all_runs if run not in known and any(neighbours(run, old) for old in wave)]
         known.update(wave)
@@ -306,6 +308,10 @@ def alike(one, other):
     if isinstance(one, (tuple, list)):
         return all(alike(a, b) for a, b in zip(one, other))
     return True
+
+
+def is_int(value):
+    return type(value) is int
 
 
 def is_stairs(value):

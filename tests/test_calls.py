@@ -3,7 +3,8 @@
 import copy
 import unittest
 
-from enoughhands import beside, lots, normal, pairs, parts, plans, rows, runs, stairs, stuck, sums, trades
+from enoughhands import (beside, crewbeside, crews, dealing, duties, hands, letruns, lots, normal, pairs, parts, plans,
+                         rows, runs, shares, stairs, stuck, sums, trades)
 from enoughhands.errors import HandError
 
 from tests import plain
@@ -11,6 +12,7 @@ from tests import plain
 TRADE = (("a", 2, 1), ("b", 3, -1), ("c", 4, 2), ("d", 4, -4))
 STAIRS, ROW = ((2, 3), (3, 4)), (3, 1, ((2, 3), (3, 4)), ((0, 3),))
 RUNS = (("a", "b", "d"), ("d", "a", "b"))
+DEAL, ALL, NOBODY = (("a", "ann"), ("c", "bob")), ("a", "b", "c"), ()
 
 
 def one():
@@ -19,6 +21,10 @@ def one():
 
 def two():
     return plans.Plan("beside(then(a,b),d)")
+
+
+def crew():
+    return crews.Crew("may ann b a\nmay bob c b\nunlike c a\nfew 2 b c\nmost bob 2")
 
 
 CALLS = [
@@ -59,7 +65,32 @@ CALLS = [
     (stuck.can, lambda: (one(), TRADE, 0)), (stuck.shows_can, lambda: (one(), TRADE, 4, ["stuck", [()]])),
     (stuck.never, lambda: (one(), TRADE, 4)), (stuck.shows_never, lambda: (one(), TRADE, 4, ["stuck", ()])),
     (stuck.sure_stocks, lambda: (one(), TRADE)), (stuck.forced, lambda: (one(), TRADE, 9)),
-    (stuck.forced, lambda: (one(), TRADE, 0)),
+    (stuck.forced, lambda: (one(), TRADE, 0)), (letruns.let_many, lambda: (one(), TRADE, 9)),
+    (letruns.let_nth, lambda: (one(), TRADE, 9, 1)), (letruns.let_number, lambda: (one(), TRADE, 9, RUNS[0])),
+    (letruns.let_every, lambda: (one(), TRADE, 9)), (letruns.let_stairs, lambda: (one(), TRADE)),
+    (letruns.joined, lambda: (one(), TRADE, 9, *RUNS)), (letruns.joined, lambda: (one(), TRADE, 9, ["a"], 1)),
+    (letruns.shows_joined, lambda: (one(), TRADE, 9, *RUNS, ["rows", [RUNS]])),
+    (lambda crew, person: crew.may(person), lambda: (crew(), "ann")),
+    (lambda crew, *told: crew.with_may(*told).text, lambda: (crew(), "ann", "x")),
+    (lambda crew, *told: crew.without_may(*told).text, lambda: (crew(), "ann", ["b"])),
+    (lambda crew, duty: crew.with_duty(duty).text, lambda: (crew(), ("same", ("b", "c")))),
+    (lambda crew, number: crew.without_duty(number).text, lambda: (crew(), 1)),
+    (duties.broken, lambda: (crew(), DEAL)), (duties.is_kept, lambda: (crew(), [DEAL])),
+    (duties.pattern_of, lambda: (crew(), DEAL)), (duties.patterns, lambda: (crew(), ALL)),
+    (crewbeside.kept_within, lambda: (crew(), crew().without_duty(0))),
+    (crewbeside.kept_within, lambda: (crew().without_duty(0), crew())),
+    (crewbeside.shows_kept_within, lambda: (crew(), crew(), ["within"])),
+    (crewbeside.kept_alike, lambda: (crew(), crew().without_duty(0))),
+    (crewbeside.shows_kept_alike, lambda: (crew(), crew(), ["alike", {}])),
+    (crewbeside.idle_duties, lambda: (crew(),)), (crewbeside.idle_mays, lambda: (crew(),)),
+    (lambda *told: crewbeside.common(*told).text, lambda: (crew(), crew())),
+    (shares.shares, lambda: (crew(), ALL, NOBODY, ("ann",), "bob")), (shares.leads, lambda: (crew(), ALL, ((), (0, 0)), ("a",))),
+    (hands.reached, lambda: (crew(), ALL, DEAL, NOBODY, 5)), (hands.is_hands, lambda: (crew(), ALL, NOBODY, NOBODY, 1, [()])),
+    (dealing.dealt, lambda: (crew(), ALL, NOBODY, NOBODY, 5)), (dealing.dealt, lambda: (crew(), ALL, NOBODY, NOBODY, 1)),
+    (dealing.shows_dealt, lambda: (crew(), ALL, DEAL, NOBODY, 5, ["deal", [DEAL]])),
+    (dealing.fewest, lambda: (crew(), ALL, NOBODY, NOBODY)), (dealing.fewest, lambda: (crew(), ("x",), NOBODY, NOBODY)),
+    (dealing.shows_fewest, lambda: (crew(), ALL, NOBODY, NOBODY, ["people", 1])),
+    (dealing.able, lambda: (crew(), ALL, DEAL, ("ann",))), (dealing.needed, lambda: (crew(), ALL, NOBODY, NOBODY)),
 ]
 
 
@@ -88,6 +119,11 @@ class Calls(unittest.TestCase):
                 ahead = copy.deepcopy(args)
                 told(call, args)
                 self.assertTrue(plain.alike(args, ahead))
+                for crew_told in args:
+                    if isinstance(crew_told, crews.Crew):
+                        same = crews.Crew(crew_told.text)
+                        self.assertEqual((crew_told.people, crew_told.duties, [crew_told.may(p) for p in same.people]),
+                                         (same.people, same.duties, [same.may(p) for p in same.people]))
                 for plan in args:
                     if isinstance(plan, plans.Plan):
                         same = plans.Plan(plan.text)

@@ -33,8 +33,24 @@ INTERFACE = {
              "traps": "plan trade stock", "room": "plan trade stock done", "is_closed": "plan trade stock value"},
     "stuck": {"can": "plan trade stock", "shows_can": "plan trade stock value", "never": "plan trade stock",
               "shows_never": "plan trade stock value", "sure_stocks": "plan trade", "forced": "plan trade stock"},
+    "letruns": {"let_many": "plan trade stock", "let_nth": "plan trade stock number",
+                "let_number": "plan trade stock run", "let_every": "plan trade stock", "let_stairs": "plan trade",
+                "joined": "plan trade stock one other", "shows_joined": "plan trade stock one other value"},
+    "crews": {"Crew": "text"},
+    "duties": {"broken": "crew deal", "is_kept": "crew deal", "pattern_of": "crew deal", "patterns": "crew tasks"},
+    "crewbeside": {"kept_within": "one other", "shows_kept_within": "one other value", "kept_alike": "one other",
+                   "shows_kept_alike": "one other value", "idle_duties": "crew", "idle_mays": "crew",
+                   "common": "one other"},
+    "shares": {"shares": "crew tasks given away person", "leads": "crew tasks stand share"},
+    "hands": {"reached": "crew tasks given away most", "is_hands": "crew tasks given away most value"},
+    "dealing": {"dealt": "crew tasks given away most", "shows_dealt": "crew tasks given away most value",
+                "fewest": "crew tasks given away", "shows_fewest": "crew tasks given away value",
+                "able": "crew tasks given away", "needed": "crew tasks given away"},
 }
 METHODS = {"plans": {"Plan": {"chosen": "choice", "next": "done", "rest": "done", "__len__": "", "__eq__": "other",
+                              "__contains__": "value"}},
+           "crews": {"Crew": {"may": "person", "with_may": "person task", "without_may": "person task",
+                              "with_duty": "duty", "without_duty": "number", "__len__": "", "__eq__": "other",
                               "__contains__": "value"}}}
 
 
