@@ -53,7 +53,7 @@ class Crew:
             raise Known(task)
         if len(known) >= MOST_TASKS:
             raise Full(MOST_TASKS)
-        return self._with_tasks(person, (*self.mays[person], task))
+        return self._with_tasks(person, self.mays[person] + (task,))
 
     def without_may(self, person, task):
         """Return the Crew in which this person may not do this task."""

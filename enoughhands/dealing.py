@@ -4,7 +4,7 @@ from enoughhands.checks import is_integer, is_row_of, is_said
 from enoughhands.duties import keeps
 from enoughhands.hands import are_hands, check_most, hands_for, told_layers
 from enoughhands.marks import lot_of
-from enoughhands.takings import all_marks, bounds_for, check_told, deal_to, full_stands, growth
+from enoughhands.takings import all_marks, bounds_for, check_told, deal_to, few_bounds, full_stands, good_steps
 from enoughhands.takings import layers_of
 
 
@@ -26,7 +26,7 @@ def dealt_to(crew, tasks, given, away, most):
     """Return any deal of the tasks to at most so many people, or hands for these."""
     bounds = bounds_for(crew, tasks, most)
     layers = layers_of(all_marks(crew, tasks, given, away), bounds)
-    full = full_stands(layers, bounds)
+    full = full_stands(tasks, bounds, layers)
     if full:
         return ("deal", deal_to(crew, tasks, layers, full[0]))
     return ("none", told_layers(tasks, bounds, layers))
@@ -84,18 +84,8 @@ def shows_fewest(crew, tasks, given, away, value):
 
 def used_marks(crew, tasks, given, away):
     """Return for each person the marks of all shares of which some deal is put together."""
-    bounds = bounds_for(crew, tasks, len(crew))
-    marks = all_marks(crew, tasks, given, away)
-    layers = [{0: True}] + layers_of(marks, bounds)
-    good = {stand: True for stand in full_stands(layers, bounds)}
-    used = []
-    for own, ahead in reversed(list(zip(marks, layers))):
-        steps = {mark: growth(bounds, mark) for mark in own}
-        found = [(stand, mark) for stand in ahead for mark in own
-                 if not stand & mark and stand + steps[mark] in good]
-        good = {stand: True for stand, mark in found}
-        used.append(list({mark: True for stand, mark in found}))
-    return used[::-1]
+    steps = good_steps(tasks, all_marks(crew, tasks, given, away), few_bounds(crew, tasks))
+    return [list({mark: True for stand, mark, later in found}) for found in steps]
 
 
 def able(crew, tasks, given, away):

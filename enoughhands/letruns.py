@@ -2,12 +2,11 @@
 
 from enoughhands.checks import are_names, ascends, is_integer, is_said
 from enoughhands.errors import BadNumber, BadRun, TooMany
-from enoughhands.going import is_whole_run
 from enoughhands.letting import safe_ways
 from enoughhands.lots import checked_table
 from enoughhands.paths import grown, many_behind, number_along, run_at, tuples_behind, ways_of
 from enoughhands.runs import MOST_TOLD, are_neighbours, exchanged
-from enoughhands.stuck import is_let
+from enoughhands.stuck import is_let_run
 from enoughhands.trades import trade_table
 
 
@@ -39,7 +38,7 @@ def let_number(plan, trade, stock, run):
 
 def check_let(plan, table, stock, run):
     """Raise the error for what is no let run."""
-    if not is_whole_run(plan, run) or not is_let(table, stock, run):
+    if not is_let_run(plan, table, stock, run):
         raise BadRun(run)
 
 

@@ -71,3 +71,13 @@ def run_along(safe):
         lot = grown(lot, task)
         run = (*run, task)
     return run
+
+
+def lets_behind(ways, table, stock):
+    """Return for each lot in how many sequences all that is left is let behind it."""
+    many = {}
+    for lot in reversed(list(ways)):
+        level = level_of(table, stock, lot)
+        later = [many[grown(lot, task)] for task in ways[lot] if need_of(table, task) <= level]
+        many[lot] = sum(later) if ways[lot] else 1
+    return many

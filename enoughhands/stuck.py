@@ -14,23 +14,35 @@ def is_let(table, stock, tasks):
     return len(levels_from(stock, steps_for(table, tasks))) == len(tasks) + 1
 
 
-def can(plan, trade, stock):
+def can_at(plan, table, stock):
     """Return any let run, or closed lots without a choice."""
-    table = checked_table(trade, stock)
     safe = safe_ways(ways_of(plan), table, stock)
     if safe:
         return ("run", run_along(safe))
     return ("stuck", reached_for(plan, table, stock))
 
 
+def can(plan, trade, stock):
+    """Return any let run, or closed lots without a choice."""
+    return can_at(plan, checked_table(trade, stock), stock)
+
+
+def are_stuck(plan, table, stock, value):
+    """Tell whether any value is closed lots without a choice."""
+    return are_closed(ways_of(plan), table, stock, value) and all([lot not in plan.choices for lot in value])
+
+
+def is_let_run(plan, table, stock, value):
+    """Tell whether any value is a let run."""
+    return is_whole_run(plan, value) and is_let(table, stock, value)
+
+
 def shows_can(plan, trade, stock, value):
     """Tell whether any value is what can may return."""
     table = checked_table(trade, stock)
     if is_said(value, "run"):
-        return is_whole_run(plan, value[1]) and is_let(table, stock, value[1])
-    if not is_said(value, "stuck") or not are_closed(ways_of(plan), table, stock, value[1]):
-        return False
-    return all([lot not in plan.choices for lot in value[1]])
+        return is_let_run(plan, table, stock, value[1])
+    return is_said(value, "stuck") and are_stuck(plan, table, stock, value[1])
 
 
 def beginnings_to(reached):

@@ -10,7 +10,9 @@ from enoughhands.errors import BadAway, BadDeal, BadTasks
 from enoughhands.marks import lot_of, mark_of, marks_within, size_of
 
 MARK_BITS = 8
+MARKED = 255
 COUNT_BITS = 4
+COUNTED = 15
 
 
 def are_away(crew, value):
@@ -65,7 +67,7 @@ def few_bounds(crew, tasks):
 
 def bounds_for(crew, tasks, most):
     """Return for each count of stands the greatest that is not too great, and the mark of its tasks."""
-    return [(most, mark_of(tasks, tasks)), *few_bounds(crew, tasks)]
+    return [(most, mark_of(tasks, tasks))] + few_bounds(crew, tasks)
 
 
 def growth(bounds, mark):
@@ -82,14 +84,14 @@ def counts_in(bounds, number):
     counts = []
     left = number >> MARK_BITS
     for _ in bounds:
-        counts.append(left & (1 << COUNT_BITS) - 1)
+        counts.append(left & COUNTED)
         left = left >> COUNT_BITS
     return tuple(counts)
 
 
 def mark_in(number):
     """Return the mark of the tasks that the stand with this number has."""
-    return number & (1 << MARK_BITS) - 1
+    return number & MARKED
 
 
 def is_too_great(bounds, counts):
@@ -132,9 +134,9 @@ def layers_of(marks, bounds):
     return layers
 
 
-def full_stands(layers, bounds):
+def full_stands(tasks, bounds, layers):
     """Return the list of the last stands that have all tasks, those with fewer people first."""
-    full = bounds[0][1]
+    full = mark_of(tasks, tasks)
     found = [stand for stand in layers[-1] if mark_in(stand) == full]
     return sorted(found, key=lambda stand: counts_in(bounds, stand))
 
@@ -147,3 +149,17 @@ def deal_to(crew, tasks, layers, stand):
         at, mark = layer[at]
         pairs.extend([(task, person) for task in lot_of(tasks, mark)])
     return tuple(sorted(pairs))
+
+
+def good_steps(tasks, marks, bounds):
+    """Return for each person all (stand, share, stand behind it) of which some deal of the tasks is put together."""
+    layers = [{0: True}] + layers_of(marks, bounds)
+    good = {stand: True for stand in full_stands(tasks, bounds, layers)}
+    steps = []
+    for own, ahead in reversed(list(zip(marks, layers))):
+        grown = {mark: growth(bounds, mark) for mark in own}
+        found = [(stand, mark, stand + grown[mark]) for stand in ahead for mark in grown
+                 if not stand & mark and stand + grown[mark] in good]
+        good = {stand: True for stand, mark, later in found}
+        steps.append(found)
+    return steps[::-1]

@@ -3,8 +3,9 @@
 import copy
 import unittest
 
-from enoughhands import (beside, crewbeside, crews, dealing, duties, hands, letruns, lots, normal, pairs, parts, plans,
-                         rows, runs, shares, stairs, stuck, sums, trades)
+from enoughhands import (beside, crewbeside, crews, days, dealing, dealranks, duties, finishing, fronts, hands, letruns,
+                         lots, normal, pairs, parts, plans, restranks, rows, runs, shares, stairs, stuck, sums, trades,
+                         wanting, works)
 from enoughhands.errors import HandError
 
 from tests import plain
@@ -13,6 +14,7 @@ TRADE = (("a", 2, 1), ("b", 3, -1), ("c", 4, 2), ("d", 4, -4))
 STAIRS, ROW = ((2, 3), (3, 4)), (3, 1, ((2, 3), (3, 4)), ((0, 3),))
 RUNS = (("a", "b", "d"), ("d", "a", "b"))
 DEAL, ALL, NOBODY = (("a", "ann"), ("c", "bob")), ("a", "b", "c"), ()
+DAY, ANN, BOB = (("a", "ann"),), ("ann",), ("bob",)
 
 
 def one():
@@ -25,6 +27,11 @@ def two():
 
 def crew():
     return crews.Crew("may ann b a\nmay bob c b\nunlike c a\nfew 2 b c\nmost bob 2")
+
+
+def work():
+    return works.Works(f"stock 4\nplan {one().text}\ntask a 2 1\ntask b 3 -1\ntask d 4 -4\nmay ann b a d\nmay bob c b d\n"
+                       "unlike c a\nfew 2 b c")
 
 
 CALLS = [
@@ -91,6 +98,25 @@ CALLS = [
     (dealing.fewest, lambda: (crew(), ALL, NOBODY, NOBODY)), (dealing.fewest, lambda: (crew(), ("x",), NOBODY, NOBODY)),
     (dealing.shows_fewest, lambda: (crew(), ALL, NOBODY, NOBODY, ["people", 1])),
     (dealing.able, lambda: (crew(), ALL, DEAL, ("ann",))), (dealing.needed, lambda: (crew(), ALL, NOBODY, NOBODY)),
+    (dealranks.deals, lambda: (crew(), ALL, NOBODY, NOBODY)), (dealranks.every_deal, lambda: (crew(), ALL, DEAL, NOBODY)),
+    (dealranks.nth_deal, lambda: (crew(), ("b", "c"), NOBODY, NOBODY, 1)),
+    (dealranks.number_of_deal, lambda: (crew(), ALL, DEAL, NOBODY, (("a", "ann"), ("b", "bob"), ("c", "bob")))),
+    (dealranks.number_of_deal, lambda: (crew(), ALL, DEAL, NOBODY, [DEAL])), (wanting.wanting, lambda: (crew(), ALL)),
+    (wanting.wanting, lambda: (crews.Crew("may ann a\nmost ann 0"), ALL)),
+    (wanting.shows_wanting, lambda: (crews.Crew("may ann a"), ALL, ["want", ["b"]])),
+    (lambda works, stock: works.with_stock(stock).text, lambda: (work(), 7)),
+    (lambda works, choice: works.by(choice).text, lambda: (work(), ("a", "b", "d"))),
+    (days.wrong, lambda: (work(), [DAY])), (days.wrong, lambda: (work(), DAY)), (days.level, lambda: (work(), DAY)),
+    (lambda works, day: days.left(works, day).text, lambda: (work(), DAY)), (days.is_finished, lambda: (work(), DAY)),
+    (finishing.finish, lambda: (work(), DAY, NOBODY)), (finishing.finish, lambda: (work(), DAY, BOB)),
+    (finishing.finish, lambda: (work(), [DAY], BOB)), (finishing.shows_finish, lambda: (work(), DAY, BOB, ["rest", [()]])),
+    (finishing.choices_left, lambda: (work(), DAY, BOB)), (restranks.rests, lambda: (work(), DAY, NOBODY)),
+    (restranks.nth_rest, lambda: (work(), DAY, NOBODY, 0)),
+    (restranks.number_of_rest, lambda: (work(), DAY, NOBODY, finishing.finish(work(), DAY, NOBODY)[1])),
+    (restranks.open_events, lambda: (work(), DAY, NOBODY)), (restranks.shut_events, lambda: (work(), DAY, NOBODY)),
+    (restranks.leaving, lambda: (work(), DAY, NOBODY)), (restranks.teams, lambda: (work(), DAY, NOBODY)),
+    (fronts.front, lambda: (work(), DAY, NOBODY)), (fronts.front, lambda: (work(), DAY, ANN)),
+    (fronts.shows_front, lambda: (work(), DAY, ANN, [(), ["paper"]])), (fronts.short, lambda: (work(), (), NOBODY, 2)),
 ]
 
 
@@ -124,6 +150,11 @@ class Calls(unittest.TestCase):
                         same = crews.Crew(crew_told.text)
                         self.assertEqual((crew_told.people, crew_told.duties, [crew_told.may(p) for p in same.people]),
                                          (same.people, same.duties, [same.may(p) for p in same.people]))
+                for works_told in args:
+                    if isinstance(works_told, works.Works):
+                        same = works.Works(works_told.text)
+                        self.assertEqual((works_told.stock, works_told.plan, works_told.trade, works_told.crew),
+                                         (same.stock, same.plan, same.trade, same.crew))
                 for plan in args:
                     if isinstance(plan, plans.Plan):
                         same = plans.Plan(plan.text)

@@ -32,7 +32,8 @@ class Examples(unittest.TestCase):
     def test_points(self):
         self.assertEqual([point for point, text in POINTS], ["11", "12", "13", "14", "15",
                                                              "21", "22", "23", "24", "25", "31", "32", "33",
-                                                             "41", "42", "43", "51", "52", "53"])
+                                                             "41", "42", "43", "51", "52", "53", "54", "56",
+                                                             "61", "62", "63", "64", "65"])
 
 
 if __name__ == "__main__":

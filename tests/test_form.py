@@ -46,12 +46,23 @@ INTERFACE = {
     "dealing": {"dealt": "crew tasks given away most", "shows_dealt": "crew tasks given away most value",
                 "fewest": "crew tasks given away", "shows_fewest": "crew tasks given away value",
                 "able": "crew tasks given away", "needed": "crew tasks given away"},
+    "dealranks": {"deals": "crew tasks given away", "every_deal": "crew tasks given away",
+                  "nth_deal": "crew tasks given away number", "number_of_deal": "crew tasks given away deal"},
+    "wanting": {"wanting": "crew tasks", "shows_wanting": "crew tasks value"},
+    "works": {"Works": "text"},
+    "days": {"wrong": "works value", "level": "works day", "left": "works day", "is_finished": "works day"},
+    "finishing": {"finish": "works day away", "shows_finish": "works day away value", "choices_left": "works day away"},
+    "restranks": {"rests": "works day away", "nth_rest": "works day away number",
+                  "number_of_rest": "works day away events", "open_events": "works day away",
+                  "shut_events": "works day away", "leaving": "works day away", "teams": "works day away"},
+    "fronts": {"front": "works day away", "shows_front": "works day away value", "short": "works day away most"},
 }
 METHODS = {"plans": {"Plan": {"chosen": "choice", "next": "done", "rest": "done", "__len__": "", "__eq__": "other",
                               "__contains__": "value"}},
            "crews": {"Crew": {"may": "person", "with_may": "person task", "without_may": "person task",
                               "with_duty": "duty", "without_duty": "number", "__len__": "", "__eq__": "other",
-                              "__contains__": "value"}}}
+                              "__contains__": "value"}},
+           "works": {"Works": {"with_stock": "stock", "by": "choice", "__eq__": "other"}}}
 
 
 class Form(unittest.TestCase):
