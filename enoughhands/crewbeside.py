@@ -2,7 +2,7 @@
 
 from enoughhands.checks import is_said
 from enoughhands.crews import Crew
-from enoughhands.duties import is_kept, keeps
+from enoughhands.duties import is_broken, is_kept, keeps
 from enoughhands.errors import Full, Nobody
 from enoughhands.lines import MOST_DUTIES, MOST_FEW, are_few, may_line
 from enoughhands.weaving import lots_within
@@ -45,7 +45,13 @@ def pools_against(duty, crew):
     if duty[0] == "unlike":
         return [[pools[person]] * 2 for person in crew.people]
     number = 2 if duty[0] == "same" else duty[1] + 1
-    return [[pools[person] for person in some] for some in lots_within(crew.people) if len(some) == number]
+    return [[pools[one] for one in some] for some in lots_within(crew.people) if len(some) == number]
+
+
+def deals_breaking(crew, duty):
+    """Return the list of all least deals that the crew keeps and that break the duty."""
+    deals = [deal for pools in pools_against(duty, crew) for deal in kept_deals(crew, pools)]
+    return [deal for deal in deals if is_broken(duty, deal)]
 
 
 def deals_not_kept(one, other):
@@ -55,14 +61,11 @@ def deals_not_kept(one, other):
     are gone through: a pair that it does not let be, or just as many pairs as
     break one of its duties.
     """
-    pools = [[[pair]] for person in one.people for pair in pairs_of(one, person)]
+    pairs = [(pair,) for person in one.people for pair in pairs_of(one, person)]
+    found = [deal for deal in pairs if keeps(one, deal) and not keeps(other, deal)]
     for duty in other.duties:
-        pools.extend(pools_against(duty, one))
-    for some in pools:
-        found = [deal for deal in kept_deals(one, some) if not keeps(other, deal)]
-        if found:
-            return found
-    return []
+        found = found if found else deals_breaking(one, duty)
+    return found
 
 
 def kept_within(one, other):
@@ -94,8 +97,9 @@ def shows_kept_alike(one, other, value):
 
 def idle_duties(crew):
     """Return the numbers of the duties each of which can be left out, and the same deals are kept."""
-    numbers = list(range(len(crew.duties)))
-    return tuple([at for at in numbers if not deals_not_kept(crew.without_duty(at), crew)])
+    return tuple([
+        at for at, duty in enumerate(crew.duties) if not deals_breaking(crew.without_duty(at), duty)
+    ])
 
 
 def idle_mays(crew):

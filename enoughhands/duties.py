@@ -73,9 +73,9 @@ def with_next(pattern, task):
 
 
 def is_fair(duty, pattern):
-    """Tell whether these lots, each taken by one person, keep the duty."""
-    deal = [(task, at) for at, lot in enumerate(pattern) for task in lot]
-    return duty[0] == "most" or not is_broken(duty, deal)
+    """Tell whether these lots, each taken by another one, keep the duty."""
+    # Numbers stand for the people, so no duty most is about any of them.
+    return not is_broken(duty, [(task, at) for at, lot in enumerate(pattern) for task in lot])
 
 
 def patterns(crew, tasks):

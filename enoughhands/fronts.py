@@ -57,7 +57,7 @@ def front(works, day, away):
 def is_stock_paper(job, day, choice, need, run, lots):
     """Tell whether this is what stock_paper may tell."""
     rest = left_by(job, day, choice)
-    if not is_integer(need) or need < 0:
+    if not is_integer(need):
         return False
     if rest is None:
         return need == 0 and run == () and lots == ()

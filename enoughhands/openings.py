@@ -67,11 +67,6 @@ def finish_for(job, day, away):
     return ("never", tuple(papers))
 
 
-def papers_for(job, day, away):
-    """Return papers of a day that has no rests."""
-    return finish_for(job, day, away)[1]
-
-
 def is_rest(job, day, away, value):
     """Tell whether any value is a rest of the day."""
     if not isinstance(value, tuple) or wrong_in(job, day + value):

@@ -64,9 +64,8 @@ class Works:
         trade = read_trade(lines[2:], self.plan)
         self.trade = tuple([trade[task] for task in sorted(list(trade))])
         ahead = 2 + len(trade)
-        if len(lines) == ahead:
-            raise BadWorks(ahead + 1)
         try:
+            # If no line is left, it is the one line of the empty text that is missing.
             self.crew = Crew("\n".join(lines[ahead:]))
         except BadCrew as told:
             raise BadWorks(ahead + told.value) from None

@@ -150,6 +150,7 @@ class Idle(plain.Raises, unittest.TestCase):
         self.assertEqual(idle_duties(Crew("may ann a b\nmay bob b\nsame a b\nfew 1 a b")), (0, 1))
         self.assertEqual(idle_duties(Crew("may ann a b\nmay bob b\nmost ann 1\nunlike a b c")), (0, 1))
         self.assertEqual(idle_mays(Crew("may ann b a\nmost ann 0")), (("a", "ann"), ("b", "ann")))
+        self.assertEqual(idle_mays(Crew("may ann b\nmay bob a\nmost ann 0\nmost bob 0")), (("a", "bob"), ("b", "ann")))
 
 
 class Common(plain.Raises, unittest.TestCase):

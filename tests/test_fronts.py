@@ -131,6 +131,8 @@ class Front(plain.Raises, unittest.TestCase):
             self.assertEqual(front(works=works, day=done, away=away), value)
             self.assertIs(shows_front(works=works, day=done, away=away, value=value), True)
             self.assertEqual([short(works=works, day=done, away=away, most=most) for most in range(4)], [None, None, 0, 0])
+            self.assertIs(shows_front(works, done, away, (((1, 2),), ((choice, 1, *value[1][0][2:]),))), False)
+            self.assertIs(shows_front(works, done, away, (((-1, 2),), ((choice, -1, *value[1][0][2:]),))), False)
             for number in (False, True, 1, None):
                 self.assertIs(shows_front(works, done, away, (((number, 2),), value[1])), False)
                 self.assertIs(shows_front(works, done, away, (((0, 2),), ((choice, number, *value[1][0][2:]),))), False)

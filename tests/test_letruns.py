@@ -166,6 +166,28 @@ class Joined(plain.Raises, unittest.TestCase):
                                    ("rows", (("a", "b", "c"), ("b", "a", "c"), ("a", "b", "c")))), False)
         self.assertEqual(joined(plan, (), 0, ("a", "b", "c"), ("a", "b", "c")), ("rows", (("a", "b", "c"),)))
 
+    def test_rows_by_what_is_not_let(self):
+        plan, trade = Plan("beside(a,b,c)"), (("a", 1, -1), ("b", 0, 1), ("c", 1, 0))
+        abc, acb, bac, bca, cab, cba = (tuple(word) for word in ("abc", "acb", "bac", "bca", "cab", "cba"))
+        self.assertEqual(let_every(plan, trade, 1), (abc, bac, bca, cab, cba))
+        self.assertEqual(joined(plan, trade, 1, abc, cba), ("rows", (abc, bac, bca, cba)))
+        self.assertIs(shows_joined(plan, trade, 1, abc, cba, ("rows", (abc, acb, cab, cba))), False)
+        self.assertIs(shows_joined(plan, (), 1, abc, cba, ("rows", (abc, acb, cab, cba))), True)
+        either = Plan("either(beside(a,b),d)")
+        self.assertIs(shows_joined(either, (("a", 1, 0), ("b", 0, 1)), 0, ("b", "a"), ("d",), ("apart", (("b", "a"),))), True)
+        self.assertIs(shows_joined(either, (("a", 1, 0), ("b", 0, 1)), 0, ("b", "a"), ("d",),
+                                   ("apart", (("a", "b"), ("b", "a")))), False)
+
+    def test_rows_that_go_elsewhere(self):
+        plan = Plan("beside(a,b,c)")
+        abc, acb, bac, bca, cba = (tuple(word) for word in ("abc", "acb", "bac", "bca", "cba"))
+        self.assertIs(shows_joined(plan, (), 0, abc, bac, ("rows", (abc, bac))), True)
+        for rows in ((bca, bac), (abc, acb), (abc,), (bac,), (bac, abc), (abc, abc), (abc, bac, bac)):
+            self.assertIs(shows_joined(plan, (), 0, abc, bac, ("rows", rows)), False)
+        self.assertIs(shows_joined(plan, (), 0, abc, cba, ("rows", (abc, bac, bca, cba))), True)
+        for rows in ((abc, bac, abc, cba), (abc, cba, bca, cba), (abc, acb, bca, cba), (abc, bac, bac, cba), (abc, cba)):
+            self.assertIs(shows_joined(plan, (), 0, abc, cba, ("rows", rows)), False)
+
     def test_apart_lots_of_runs(self):
         plan = Plan("either(beside(a,b),c,d)")
         for runs in ((("a", "b"), ("b", "a")), (("a", "b"), ("b", "a"), ("c",))):

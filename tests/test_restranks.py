@@ -102,6 +102,9 @@ class Ranks(plain.Raises, unittest.TestCase):
         self.assertEqual(rests(works, (), ("ann", "bob")), 0)
         self.assertEqual(teams(works, (), ("bob",)), ())
         self.assertEqual(leaving(works, (), ("bob",)), ())
+        several = Works("stock 0\nplan either(a,then(b,c))\nmay bob c\nmay cat a\nmay ann b")
+        self.assertEqual(teams(several, (), ()), (("ann", "bob"), ("cat",)))
+        self.assertEqual(teams(several, (("b", "ann"),), ()), (("bob",),))
         # A day that cannot be finished has only shut events.
         shop = Works(SHOP)
         self.assertEqual(open_events(shop, (("b", "bob"),), ()), ())
