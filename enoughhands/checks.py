@@ -43,3 +43,10 @@ def is_lot(value):
 def is_said(value, word):
     """Tell whether any value is a pair of this word and something else."""
     return is_row_of(value, 2) and value[0] == word
+
+
+def is_just(value, told):
+    """Tell whether any value is this one, made of strings and integers: True is not 1."""
+    if isinstance(told, tuple):
+        return is_row_of(value, len(told)) and all([is_just(one, other) for one, other in zip(value, told)])
+    return value == told and not isinstance(value, bool)

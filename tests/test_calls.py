@@ -3,9 +3,9 @@
 import copy
 import unittest
 
-from enoughhands import (beside, crewbeside, crews, days, dealing, dealranks, duties, finishing, fronts, hands, letruns,
-                         lots, normal, pairs, parts, plans, restranks, rows, runs, shares, stairs, stuck, sums, trades,
-                         wanting, works)
+from enoughhands import (beside, chances, choosing, crewbeside, crews, days, dealing, dealranks, duties, finishing, fronts,
+                         hands, letruns, losses, lots, normal, offers, pairs, parts, plans, quarrels, restranks, rows, runs,
+                         shares, slack, stairs, stuck, sums, trades, trees, wanting, works)
 from enoughhands.errors import HandError
 
 from tests import plain
@@ -15,6 +15,7 @@ STAIRS, ROW = ((2, 3), (3, 4)), (3, 1, ((2, 3), (3, 4)), ((0, 3),))
 RUNS = (("a", "b", "d"), ("d", "a", "b"))
 DEAL, ALL, NOBODY = (("a", "ann"), ("c", "bob")), ("a", "b", "c"), ()
 DAY, ANN, BOB = (("a", "ann"),), ("ann",), ("bob",)
+STANDING, OFFERS = (DAY, ((0, 1),)), (("duty", 0, 1), ("hire", "eve", "a", 2), ("need", "d", 3, 1), ("stock", 2, 3))
 
 
 def one():
@@ -117,6 +118,22 @@ CALLS = [
     (restranks.leaving, lambda: (work(), DAY, NOBODY)), (restranks.teams, lambda: (work(), DAY, NOBODY)),
     (fronts.front, lambda: (work(), DAY, NOBODY)), (fronts.front, lambda: (work(), DAY, ANN)),
     (fronts.shows_front, lambda: (work(), DAY, ANN, [(), ["paper"]])), (fronts.short, lambda: (work(), (), NOBODY, 2)),
+    (lambda plan: tuple(one.text for one in chances.eithers(plan)), lambda: (one(),)),
+    (lambda *told: chances.by(*told).text, lambda: (one(), (0,), ((0, 1),))), (chances.asks, lambda: (one(), (0,), (), ("a",))),
+    (chances.asks, lambda: (one(), (0,), [()], ("a",))), (trees.standings, lambda: (work(), (0,), NOBODY)),
+    (trees.surely, lambda: (work(), (0,), NOBODY)), (trees.surely, lambda: (work(), (), NOBODY, ((), ()))),
+    (trees.surely, lambda: (work(), (0,), NOBODY, [STANDING])), (trees.view, lambda: (work(), (0,), NOBODY, STANDING)),
+    (trees.shows_surely, lambda: (work(), (0,), NOBODY, STANDING, ["lost", [STANDING]])),
+    (trees.if_known, lambda: (work(), (0,), BOB)), (lambda *told: offers.changed(*told).text, lambda: (work(), OFFERS)),
+    (choosing.cheapest, lambda: (work(), OFFERS)), (choosing.cheapest, lambda: (work(), [OFFERS])),
+    (choosing.shows_cheapest, lambda: (work(), OFFERS, ["none", [()]])), (choosing.vital, lambda: (work(), OFFERS)),
+    (slack.more_stock, lambda: (work(), DAY, NOBODY)), (slack.more_stock, lambda: (work(), DAY, BOB)),
+    (slack.shows_more_stock, lambda: (work(), DAY, BOB, ["never", [()]])),
+    (slack.need_room, lambda: (work().with_stock(9), (), NOBODY, "d")), (slack.need_room, lambda: (work(), (), NOBODY, "d")),
+    (slack.shows_need_room, lambda: (work().with_stock(9), (), NOBODY, "b", ["free", [()]])),
+    (losses.holds, lambda: (work().with_stock(9), (), NOBODY, 0)), (losses.holds, lambda: (work(), (), NOBODY, 1)),
+    (losses.shows_holds, lambda: (work(), (), NOBODY, 1, ["holds", {}])), (losses.losses, lambda: (work(), DAY, NOBODY)),
+    (quarrels.quarrels, lambda: (work(),)), (quarrels.freed, lambda: (work().with_stock(9),)),
 ]
 
 
