@@ -29,6 +29,12 @@ def done_by(day):
     return tuple([task for task, person in day])
 
 
+def day_of(run, deal):
+    """Return the events of this run, by whom this deal tells."""
+    people = {task: person for task, person in deal}
+    return tuple([(task, people[task]) for task in run])
+
+
 def given_by(day):
     """Return the events of the day, ascending: the deal so far."""
     return tuple(sorted(list(day)))

@@ -63,14 +63,20 @@ def safe_ways(ways, table, stock):
     return {lot: tuple([task for task in reached[lot] if grown(lot, task) in safe]) for lot in safe}
 
 
-def run_along(safe):
-    """Return the run that takes the first task behind each lot, by what safe_ways tells."""
-    lot = run = ()
-    while safe[lot]:
-        task = safe[lot][0]
-        lot = grown(lot, task)
+def run_behind(safe, lot):
+    """Return the tasks that follow if the first task is taken behind each lot from this one on."""
+    at = lot
+    run = ()
+    while safe[at]:
+        task = safe[at][0]
+        at = grown(at, task)
         run = (*run, task)
     return run
+
+
+def run_along(safe):
+    """Return the run that takes the first task behind each lot, by what safe_ways tells."""
+    return run_behind(safe, ())
 
 
 def lets_behind(ways, table, stock):

@@ -8,7 +8,7 @@ from enoughhands.dealing import dealt_to
 from enoughhands.dealranks import deals_for
 from enoughhands.going import is_over
 from enoughhands.hands import are_hands
-from enoughhands.jobs import done_by, fitting, given_by, left_by, level_behind, wrong_in
+from enoughhands.jobs import day_of, done_by, fitting, given_by, left_by, level_behind, wrong_in
 from enoughhands.letting import lows_of
 from enoughhands.paths import ways_of
 from enoughhands.stuck import are_stuck, can_at
@@ -52,8 +52,7 @@ def rest_or_paper(job, day, away, choice):
     taken = dealt_to(job.crew, choice, given_by(day), away, len(job.crew))
     if taken[0] == "none":
         return (choice, "hands", taken[1])
-    people = {task: person for task, person in taken[1]}
-    return ("rest", tuple([(task, people[task]) for task in done[1]]))
+    return ("rest", day_of(done[1], taken[1]))
 
 
 def finish_for(job, day, away):

@@ -26,17 +26,7 @@ def widened(crew, choices, lot):
     for number in range(len(crew.duties)):
         if number not in wide and can_be_dealt(crew, choices, (*wide, number)):
             wide = (*wide, number)
-    return tuple(sorted(wide))
-
-
-def narrowed(crew, choices, lot):
-    """Return a least lot of duties within this one with which none of the choices can be dealt."""
-    small = lot
-    for number in lot:
-        less = tuple([one for one in small if one != number])
-        if not can_be_dealt(crew, choices, less):
-            small = less
-    return small
+    return wide
 
 
 def is_within(lot, wider):
@@ -48,7 +38,7 @@ def bounds_between(works):
     """Return the list of all greatest lots of duties with which the day has rests, and of all least without.
 
     With fewer duties no rest is lost, so what is told of one lot is told of those within
-    it, or of those around it.
+    it, or of those around it. All lots within a lot are gone through ahead of it.
     """
     job = job_of(works)
     choices = [choice for choice in fitting(job, ()) if is_open_by_stock(job, (), choice)]
@@ -60,7 +50,7 @@ def bounds_between(works):
         if can_be_dealt(works.crew, choices, lot):
             wide.append(widened(works.crew, choices, lot))
         else:
-            small.append(narrowed(works.crew, choices, lot))
+            small.append(lot)
     return (wide, small)
 
 

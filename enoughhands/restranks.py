@@ -6,7 +6,7 @@ from enoughhands.days import check_case
 from enoughhands.errors import BadNumber, NoRest
 from enoughhands.jobs import job_of
 from enoughhands.openings import has_rests, is_rest
-from enoughhands.weaving import lots_within
+from enoughhands.weaving import least_lots
 
 
 def rests(works, day, away):
@@ -97,14 +97,13 @@ def leaving(works, day, away):
     ])
 
 
+def has_rests_by(works, day, lot):
+    """Tell whether the day has rests by these people alone."""
+    others = [person for person in works.crew.people if person not in lot]
+    return has_rests(job_of(works), day, tuple(sorted(others)))
+
+
 def teams(works, day, away):
     """Return the ascending tuple of all least lots of people by whom the day has rests."""
     check_case(works, day, away)
-    job = job_of(works)
-    found = []
-    for lot in sorted(lots_within(people_here(works, away)), key=len):
-        if not any([all([person in lot for person in team]) for team in found]):
-            others = [person for person in works.crew.people if person not in lot]
-            if has_rests(job, day, tuple(sorted(others))):
-                found.append(lot)
-    return tuple(sorted(found))
+    return least_lots(people_here(works, away), lambda lot: has_rests_by(works, day, lot))

@@ -89,7 +89,7 @@ def need_room(works, day, away, task):
     free = free_rest(job, day, away, choices, task)
     if free is not None:
         return free
-    rooms = [room for choice in choices if task in choice for room in rooms_by(job, day, choice, task)]
+    rooms = [room for choice in choices for room in rooms_by(job, day, choice, task)]
     number = max(rooms)
     events = finish_for(with_need(job, task, number), day, away)[1]
     return ("room", number, events, finish_for(with_need(job, task, number + 1), day, away)[1])

@@ -116,8 +116,6 @@ def view(works, foreign, away, standing=((), ())):
 
 def tellings(plan, number, foreign):
     """Return the list of all tellings of the plan, whose eithers are numbered from this number on."""
-    if plan.kind == "task":
-        return [()]
     at = number + (1 if plan.kind == "either" else 0)
     taken = plan.kind == "either" and number in foreign
     found = [] if taken else [()]

@@ -81,3 +81,13 @@ def lots_within(tasks):
         wider = [(*lot, task) for lot in found]
         found = found + wider
     return found
+
+
+def least_lots(tasks, serves):
+    """Return the ascending tuple of all least lots of some of these that serve; serves tells it of a lot."""
+    found = []
+    # All lots within a lot come ahead of it.
+    for lot in lots_within(tasks):
+        if not any([all([task in lot for task in less]) for less in found]) and serves(lot):
+            found.append(lot)
+    return tuple(sorted(found))

@@ -3,9 +3,9 @@
 import copy
 import unittest
 
-from enoughhands import (beside, chances, choosing, crewbeside, crews, days, dealing, dealranks, duties, finishing, fronts,
-                         hands, letruns, losses, lots, normal, offers, pairs, parts, plans, quarrels, restranks, rows, runs,
-                         shares, slack, stairs, stuck, sums, trades, trees, wanting, works)
+from enoughhands import (benches, beside, chances, choosing, crewbeside, crews, days, dealing, dealranks, desk, duties, finishing,
+                         fronts, hands, journals, letruns, losses, lots, needless, normal, offers, pairs, parts, plans, quarrels,
+                         restranks, rows, runs, shares, slack, stairs, stuck, sums, teams, trades, trees, wanting, workbeside, works)
 from enoughhands.errors import HandError
 
 from tests import plain
@@ -33,6 +33,15 @@ def crew():
 def work():
     return works.Works(f"stock 4\nplan {one().text}\ntask a 2 1\ntask b 3 -1\ntask d 4 -4\nmay ann b a d\nmay bob c b d\n"
                        "unlike c a\nfew 2 b c")
+
+
+def bench():
+    made = benches.Bench(work())
+    made.do("a", "ann")
+    made.teach("bob", "a")
+    made.give(3)
+    made.undo()
+    return made
 
 
 CALLS = [
@@ -134,6 +143,22 @@ CALLS = [
     (losses.holds, lambda: (work().with_stock(9), (), NOBODY, 0)), (losses.holds, lambda: (work(), (), NOBODY, 1)),
     (losses.shows_holds, lambda: (work(), (), NOBODY, 1, ["holds", {}])), (losses.losses, lambda: (work(), DAY, NOBODY)),
     (quarrels.quarrels, lambda: (work(),)), (quarrels.freed, lambda: (work().with_stock(9),)),
+    (needless.needless, lambda: (work(),)), (needless.idle, lambda: (work(),)),
+    (workbeside.within_days, lambda: (work(), work().with_stock(0))), (workbeside.within_days, lambda: (work(), [work()])),
+    (workbeside.shows_within_days, lambda: (work(), work(), ["within"])),
+    (workbeside.alike_days, lambda: (work().with_stock(0), work())),
+    (workbeside.shows_alike_days, lambda: (work(), work(), ["parts", (), 0])), (workbeside.whole_days, lambda: (work(),)),
+    (workbeside.shared_days, lambda: (work(), work().with_stock(9))),
+    (lambda *told: workbeside.both_works(*told).text, lambda: (work(), work().with_stock(2))),
+    (workbeside.idle_stock, lambda: (work().with_stock(9),)), (teams.manages, lambda: (work(), ("a", "b", "d"), BOB)),
+    (teams.manages, lambda: (work(), ("a", "b", "d"), ("ann", "bob"))), (teams.manages, lambda: (work(), ("a", "b", "d"), [BOB])),
+    (teams.shows_manages, lambda: (work(), ("a", "b", "d"), BOB, ["none", ()])),
+    (teams.choice_teams, lambda: (work(), ("a", "b", "d"))), (teams.twins, lambda: (work(),)),
+    (journals.journal, lambda: (bench(),)), (lambda text: journals.read_journal(text).day, lambda: (journals.journal(bench()),)),
+    (lambda text: desk.Desk(text).say("events"), lambda: (journals.journal(bench()),)),
+    (lambda told: (told.events(), told.front(), told.rests(), len(told), ("a", "ann") in told), lambda: (bench(),)),
+    (lambda told: (told.tried(len), journals.journal(told.copy())), lambda: (bench(),)),
+    (lambda told: told.do("a", "ann"), lambda: (bench(),)), (lambda told: told.bind(["x"]), lambda: (bench(),)),
 ]
 
 

@@ -66,13 +66,28 @@ INTERFACE = {
               "need_room": "works day away task", "shows_need_room": "works day away task value"},
     "losses": {"holds": "works day away many", "shows_holds": "works day away many value", "losses": "works day away"},
     "quarrels": {"quarrels": "works", "freed": "works"},
+    "needless": {"needless": "works", "idle": "works"},
+    "workbeside": {"within_days": "one other", "shows_within_days": "one other value", "alike_days": "one other",
+                   "shows_alike_days": "one other value", "whole_days": "works", "shared_days": "one other",
+                   "both_works": "one other", "idle_stock": "works"},
+    "teams": {"manages": "works choice people", "shows_manages": "works choice people value",
+              "choice_teams": "works choice", "twins": "works"},
+    "benches": {"Bench": "works"},
+    "journals": {"journal": "bench", "read_journal": "text"},
+    "desk": {"Desk": "text"},
 }
 METHODS = {"plans": {"Plan": {"chosen": "choice", "next": "done", "rest": "done", "__len__": "", "__eq__": "other",
                               "__contains__": "value"}},
            "crews": {"Crew": {"may": "person", "with_may": "person task", "without_may": "person task",
                               "with_duty": "duty", "without_duty": "number", "__len__": "", "__eq__": "other",
                               "__contains__": "value"}},
-           "works": {"Works": {"with_stock": "stock", "by": "choice", "__eq__": "other"}}}
+           "works": {"Works": {"with_stock": "stock", "by": "choice", "__eq__": "other"}},
+           "benches": {"Bench": {"events": "", "front": "", "rests": "", "do": "task person", "go": "person",
+                                 "come": "person", "give": "number", "teach": "person task", "bind": "line",
+                                 "loose": "number", "undo": "", "redo": "", "trial": "", "keep": "",
+                                 "tried": "look keep", "copy": "", "__len__": "", "__eq__": "other",
+                                 "__contains__": "value"}},
+           "desk": {"Desk": {"say": "line"}}}
 
 
 class Form(unittest.TestCase):

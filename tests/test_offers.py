@@ -27,6 +27,7 @@ EDGES = [("stock", 9, 1), ("stock", 10, 1), ("need", "a", 9, 9), ("need", "a", 1
 MANY = [(("hire", "dan", "a", 1), ("hire", "eve", "a", 1)), (("hire", "dan", "a", 1), ("hire", "eve", "a", 1), ("hire", "fay", "a", 1)),
         (("hire", "dan", "a", 1), ("hire", "dan", "b", 1)), (("may", "bob", "a", 1), ("may", "bob", "c", 1)),
         (("may", "bob", "a", 1), ("may", "bob", "a", 2)), (("may", "cat", "a", 1), ("may", "cat", "b", 2)),
+        (("may", "cat", "a", 1), ("may", "cat", "a", 2)), (("may", "cat", "a", 1), ("may", "cat", "a", 1)),
         (("need", "a", 1, 1), ("need", "a", 2, 1)), (("gain", "a", 1, 1), ("need", "a", 2, 1)),
         (("gain", "a", 1, 1), ("gain", "a", 2, 1)), (("gain", "a", 1, 1), ("gain", "b", 2, 1)),
         (("stock", 1, 1), ("stock", 2, 1)), (("duty", 0, 1), ("duty", 0, 2)), (("duty", 0, 1), ("duty", 1, 1), ("duty", 2, 1)),
@@ -60,6 +61,15 @@ class Offers(plain.Raises, unittest.TestCase):
         self.assertEqual(changed(changed(works, offers), (("duty", 0, 1),)).crew.duties, ())
         two = (("may", "cat", "a", 1), ("may", "cat", "b", 1))
         self.assertEqual(changed(Works(WIDE), two).text.split("\n")[6], "may cat c a b")
+
+    def test_tasks_and_people_of_the_same_name(self):
+        works = Works("stock 1\nplan then(ann,bob)\ntask ann 3 -1\ntask bob 2 0\nmay ann bob\nmay bob ann\nmost ann 1")
+        offers = (("gain", "ann", 4, 1), ("hire", "cat", "ann", 1), ("may", "bob", "bob", 1), ("need", "ann", 2, 1))
+        self.assertEqual(changed(works, offers).text, "stock 1\nplan then(ann,bob)\ntask ann 1 5\ntask bob 2 0\n"
+                         "may ann bob\nmay bob ann bob\nmay cat ann\nmost ann 1")
+        full = Works("stock 1\nplan a\ntask a 8 0\nmay a b c d e f g h i\nmay b a")
+        self.assertEqual(changed(full, (("need", "a", 1, 1),)).trade, (("a", 7, 1),))
+        self.raises(BadOffers, (("may", "a", "a", 1),), changed, full, (("may", "a", "a", 1),))
 
     def test_edges(self):
         works, told = Works(WIDE), daily.Works(WIDE)

@@ -59,6 +59,15 @@ class MoreStock(plain.Raises, unittest.TestCase):
         self.assertEqual(more_stock(Works(HOUSE), (("buy", "ann"),), ())[1:3], (0, (("cook", "bob"), ("lay", "bob"), ("sell", "ann"))))
         self.assertIs(shows_more_stock(value=more_stock(poor, (), ()), day=(), away=(), works=poor), True)
 
+    def test_the_number_is_from_0_on(self):
+        works = Works("stock 2\nplan a\ntask a 1 0\nmay ann a")
+        rest, papers = (("a", "ann"),), ((("a",), "stock", ((),)),)
+        self.assertEqual(more_stock(works, (), ()), ("more", 0, rest, ()))
+        self.assertIs(shows_more_stock(works, (), (), ("more", -1, rest, papers)), False)
+        self.assertIs(shows_more_stock(works, (), (), ("more", 0, rest, papers)), False)
+        self.assertIs(shows_more_stock(works.with_stock(0), (), (), ("more", 1, rest, papers)), True)
+        self.assertIs(shows_more_stock(works.with_stock(0), (), (), ("more", True, rest, papers)), False)
+
     def test_stocks_however_great(self):
         tasks = "".join(f"\ntask {task} 9999 -9999" for task in "abcdefgh")
         works = Works(f"stock 99999\nplan then(a,b,c,d,e,f,g,h){tasks}\nmay ann a b c d e f g h")

@@ -118,6 +118,18 @@ class Trees(plain.Raises, unittest.TestCase):
         self.assertEqual(view(Works("stock 0\nplan a\nmay ann b"), (), ()), ("do", ()))
         self.assertEqual(surely(Works("stock 0\nplan a\nmay ann a"), (), ("ann",)), ("lost", (((), ()),)))
 
+    def test_an_either_with_a_lesser_number_may_be_asked_later(self):
+        told = daily.Works("stock 0\nplan beside(then(a,either(b,c)),either(d,e))\nmay ann a b d\nmay bob c e")
+        works, course = Works(told.text), telling.Course(told, (0, 1), ())
+        self.assertEqual(standings(works, (0, 1), ()), len(course.steps))
+        later = ((("a", "ann"),), ((1, 1),))
+        self.assertEqual(view(works, (0, 1), (), later), ("ask", 0, ()))
+        both = (later[0], ((0, 1), (1, 1)))
+        self.assertEqual(view(works, (0, 1), (), both), ("do", (("c", "bob"), ("e", "bob"))))
+        for standing in course.steps:
+            self.assertEqual(view(works, (0, 1), (), standing), course.view(standing))
+            self.assertTrue(course.is_surely(standing, surely(works, (0, 1), (), standing)))
+
     def test_many_standings(self):
         works = Works(MANY)
         self.assertEqual(standings(works, (), ()), 2000)
@@ -157,7 +169,8 @@ class Trees(plain.Raises, unittest.TestCase):
             for standing in course.steps:
                 values += [standing, list(standing), standing + ((),), (standing[0], ((0, True),)), (standing[0][::-1], standing[1]),
                            (standing[0], ()), ((), standing[1]), (standing[0] + ((["a"], "ann"),), standing[1]),
-                           (standing[0], standing[1] + (({}, 0),))]
+                           (standing[0], standing[1] + (({}, 0),)), (standing[0] + (("a", ["ann"]),), standing[1]),
+                           (standing[0], standing[1] + ((0, []),)), (standing[0] + (["a", "ann"],), standing[1])]
             for value in values:
                 if course.comes(value):
                     self.assertEqual(view(works, foreign, (), value), course.view(value))
