@@ -101,7 +101,7 @@ def shows_need_room(works, day, away, task, value):
     job = job_of(works)
     if is_said(value, "free"):
         return is_rest(job, day, away, value[1]) and task not in done_by(value[1])
-    if not is_row_of(value, 4) or value[0] != "room" or not is_integer(value[1]) or value[1] < 0:
+    if not is_row_of(value, 4) or value[0] != "room" or not is_integer(value[1]):
         return False
     if not is_rest(with_need(job, task, value[1]), day, away, value[2]):
         return False

@@ -179,6 +179,44 @@ def unused(tree):
     return [f"{name} is imported and not used" for name in imports_of(tree) if name not in used]
 
 
+def is_simple(node):
+    """Whether this is a name, an attribute, a literal without a sign, or a tuple of such."""
+    if isinstance(node, ast.Tuple):
+        return all(is_simple(one) for one in node.elts)
+    return isinstance(node, (ast.Name, ast.Attribute, ast.Constant))
+
+
+def stars_wrong(tree):
+    """L7: what stands behind a star in a call."""
+    for node in ast.walk(tree):
+        if isinstance(node, ast.Call):
+            for one in node.args:
+                if isinstance(one, ast.Starred) and not is_simple(one.value):
+                    yield f"L7: a star in line {node.lineno}"
+            if any(word.arg is None for word in node.keywords):
+                yield f"L7: two stars in line {node.lineno}"
+
+
+def exits_wrong(tree):
+    """L6 With: the rows of __exit__; only assignments of what is simple, under tests of None."""
+    def rows_wrong(rows):
+        for row in rows:
+            if isinstance(row, ast.If):
+                tests = row.test.values if isinstance(row.test, ast.BoolOp) else [row.test]
+                if not all(isinstance(test, ast.Compare) and isinstance(test.ops[0], (ast.Is, ast.IsNot)) for test in tests):
+                    yield f"L6 With: line {row.lineno}"
+                yield from rows_wrong(row.body + row.orelse)
+            elif not (isinstance(row, ast.Assign) and len(row.targets) == 1 and is_simple(row.value)):
+                yield f"L6 With: line {row.lineno}"
+
+    for node in ast.walk(tree):
+        if isinstance(node, ast.FunctionDef) and node.name == "__exit__":
+            yield from rows_wrong(node.body)
+            read = {one.id for one in ast.walk(node) if isinstance(one, ast.Name)}
+            if read & {one.arg for one in node.args.args[2:]}:
+                yield f"L6 With: {node.lineno}"
+
+
 def circles(trees):
     """L16: modules that import from one another."""
     known = {name: set(imports_of(tree).values()) for name, tree in trees.items()}
@@ -195,6 +233,6 @@ def wrong(texts):
     found = circles(trees)
     for name, tree in trees.items():
         told = [*lines_wrong(texts[name]), *nodes_wrong(tree, own), *functions_wrong(tree),
-                *top_wrong(tree, trees), *unused(tree)]
+                *top_wrong(tree, trees), *unused(tree), *stars_wrong(tree), *exits_wrong(tree)]
         found += [f"{name}: {one}" for one in told]
     return found

@@ -112,7 +112,10 @@ class Form(unittest.TestCase):
                      "def f(n):\n    '''d'''\n    for one in set(n):\n        n = one\n    return n\n",
                      "def f(n):\n    '''d'''\n    return hash(n)\n", "x = 1\nx = 2\n",
                      "from enoughhands.other import g\n",
-                     "def f(n):\n    '''d'''\n    try:\n        n = n[0]\n    except IndexError:\n        n = 1\n"):
+                     "def f(n):\n    '''d'''\n    try:\n        n = n[0]\n    except IndexError:\n        n = 1\n",
+                     "def f(n):\n    '''d'''\n    return f(*n[1:])\n",
+                     "class A:\n    def __exit__(self, kind, value, trace):\n        self.n.pop()\n",
+                     "class A:\n    def __exit__(self, kind, value, trace):\n        self.n = trace\n"):
             self.assertTrue(form.wrong({"enoughhands.some": text}), text)
         self.assertEqual(form.wrong({"enoughhands.some": "def f(n):\n    '''d'''\n    return n + 1\n"}), [])
 

@@ -160,6 +160,17 @@ class NeedRoom(plain.Raises, unittest.TestCase):
         # It can be done behind what gives.
         self.assertEqual(need_room(Works("stock 0\nplan beside(a,b)\ntask a 0 7\nmay ann a b"), (), (), "b")[1], 7)
 
+    def test_papers_of_a_need_that_is_greater_by_one(self):
+        """With this need the task can be done ahead of all, and then the other one cannot."""
+        works, told = [kind("stock 5\nplan beside(a,c)\ntask a 3 -3\ntask c 5 -1\nmay ann a c") for kind in (Works, daily.Works)]
+        value = need_room(works, (), (), "a")
+        self.assertEqual(value, ("room", 1, (("c", "ann"), ("a", "ann")), ((("a", "c"), "stock", ((), ("a",), ("c",))),)))
+        self.assertTrue(changes.is_room(told, (), (), "a", value))
+        for number in (-1, 0, 2, 3):
+            self.assertIs(shows_need_room(works, (), (), "a", ("room", number) + value[2:]), False)
+        less = value[:3] + (((("a", "c"), "stock", ((), ("c",))),),)
+        self.assertIs(shows_need_room(works, (), (), "a", less), False)
+
     def test_free(self):
         works = Works("stock 0\nplan either(a,b)\ntask b 1 0\nmay ann a b")
         self.assertEqual(need_room(works, (), (), "b"), ("free", (("a", "ann"),)))

@@ -92,6 +92,9 @@ class Trees(plain.Raises, unittest.TestCase):
         self.assertEqual(if_known(works, (0,), ()), ())
         self.assertEqual(surely(works, (0,), ())[0], "lost")
         self.assertEqual(surely(works, (), ())[0], "tree")
+        self.assertEqual(standings(away=(), foreign=(0,), works=works), 9)
+        told = ((("a", "ann"),), ((0, 0),))
+        self.assertEqual(surely(standing=told, away=(), foreign=(0,), works=works), ("tree", ("event", ("b", "ann"), ("done",))))
 
     def test_without_foreign_eithers_a_tree_is_there_just_where_rests_are(self):
         rng = random.Random(724)

@@ -178,6 +178,7 @@ class Beside(plain.Raises, unittest.TestCase):
         # Without whole days all is within.
         none = Works("stock 0\nplan a\nmay ann b")
         self.assertEqual(within_days(none, one), ("within",))
+        self.assertEqual(within_days(other=none, one=one)[0], "more")
         self.assertEqual(alike_days(none, one), ("parts", (("a", "ann"),), 1))
         self.assertEqual(alike_days(none, Works("stock 0\nplan b\nmay bob c")), ("alike",))
         # The runs are the same, what people may do or duties is not.
