@@ -48,8 +48,8 @@ def tree_from(steps, sure, standing):
         return ("done",)
     if word == "ask":
         return ("told", what, tuple([tree_from(steps, sure, one) for one in later]))
-    event, behind = [(event, one) for event, one in zip(what, later) if one in sure][0]
-    return ("event", event, tree_from(steps, sure, behind))
+    at = [one in sure for one in later].index(True)
+    return ("event", what[at], tree_from(steps, sure, later[at]))
 
 
 def is_tree(steps, standing, value):

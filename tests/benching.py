@@ -216,6 +216,8 @@ def any_deed(rng, model):
         return ("do", *rng.choice(events))
     if word == "do":
         return ("do", rng.choice(tasks + ["x"]), rng.choice(mays + ["zoe"]))
+    if word == "come" and away and rng.random() < 0.7:
+        return (word, rng.choice(away))
     if word in ("go", "come"):
         return (word, rng.choice(mays + list(away) + ["zoe"]))
     if word == "give":

@@ -90,6 +90,13 @@ METHODS = {"plans": {"Plan": {"chosen": "choice", "next": "done", "rest": "done"
            "desk": {"Desk": {"say": "line"}}}
 
 
+ATTRIBUTES = {"plans": ("Plan", "then(a,b)", "text kind parts tasks choices is_plain turned"),
+              "crews": ("Crew", "may ann a", "text people duties"),
+              "works": ("Works", "stock 0\nplan a\nmay ann a", "text stock plan trade crew"),
+              "benches": ("Bench", "stock 0\nplan a\nmay ann a", "works first day away level done is_finished"),
+              "desk": ("Desk", "stock 0\nplan a\nmay ann a\nbench", "bench")}
+
+
 class Form(unittest.TestCase):
 
     def test_rules(self):
@@ -130,6 +137,15 @@ class Interface(unittest.TestCase):
                     thing = getattr(home, name)
                     self.assertEqual(thing.__module__, f"enoughhands.{module}")
                     self.assertEqual(list(inspect.signature(thing).parameters), told.split())
+
+    def test_attributes(self):
+        """Each one is set on each object when it is created."""
+        works = importlib.import_module("enoughhands.works").Works
+        for module, (kind, text, names) in ATTRIBUTES.items():
+            made = getattr(importlib.import_module(f"enoughhands.{module}"), kind)(works(text) if kind == "Bench" else text)
+            for name in names.split():
+                with self.subTest(kind, name=name):
+                    self.assertIn(name, vars(made))
 
     def test_methods(self):
         for module, kinds in METHODS.items():

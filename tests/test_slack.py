@@ -31,7 +31,7 @@ class MoreStock(plain.Raises, unittest.TestCase):
                 self.assertIs(shows_more_stock(works, day, away, value), True)
                 for other in self.values(rng, told, day, away, value):
                     self.assertIs(shows_more_stock(works, day, away, other), changes.is_more(told, day, away, other), other)
-        self.assertTrue(min(seen.values()) > 30, seen)
+        self.assertTrue(min(seen.values()) > 20, seen)
 
     def values(self, rng, told, day, away, value):
         """Values near to what is told, and what another number would tell."""
@@ -139,7 +139,7 @@ class NeedRoom(plain.Raises, unittest.TestCase):
                     for other in others:
                         self.assertIs(shows_need_room(works, day, away, task, other),
                                       changes.is_room(told, day, away, task, other), other)
-        self.assertTrue(min(seen.values()) > 30, seen)
+        self.assertTrue(min(seen.values()) > 20, seen)
 
     def no_rests(self, told, day, away, task):
         works = Works(told.text)

@@ -218,8 +218,8 @@ class Beside(plain.Raises, unittest.TestCase):
             one, two = Works(told.text), Works(other.text)
             try:
                 crew_text = common(one.crew, two.crew).text
-            except Nobody:
-                self.raises(Nobody, None, both_works, one, two)
+            except (Nobody, Full) as error:
+                self.raises(type(error), error.value, both_works, one, two)
                 continue
             made += 1
             both = both_works(other=two, one=one)
