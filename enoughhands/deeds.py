@@ -87,7 +87,8 @@ def works_given(works, number):
 
 def works_of(works, crew):
     """Return the Works with this crew."""
-    return Works("\n".join([*works.text.split("\n")[:2 + len(works.trade)], crew.text]))
+    lines = works.text.split("\n")[:2 + len(works.trade)]
+    return Works("\n".join(lines + [crew.text]))
 
 
 def works_taught(works, person, task):

@@ -12,7 +12,7 @@ SIZES = {"do": 3, "go": 2, "come": 2, "give": 2, "teach": 3, "loose": 2}
 
 def journal(bench):
     """Return the journal of the bench."""
-    return "\n".join([bench.first.text, MARK, *bench.lines()])
+    return "\n".join([bench.first.text, MARK] + list(bench.lines()))
 
 
 def read_deed(line):

@@ -106,7 +106,7 @@ def changed_by(works, offers):
     for line in lines[2:ahead]:
         rows.append(task_line(works, offers, line.split(" ")[1]))
     for person in works.crew.people:
-        rows.append(may_line(person, [*works.crew.mays[person], *tasks_more(offers, person)]))
+        rows.append(may_line(person, list(works.crew.mays[person]) + tasks_more(offers, person)))
     rows.extend([may_line(offer[1], offer[2:3]) for offer in offers if offer[0] == "hire"])
     dropped = [offer[1] for offer in offers if offer[0] == "duty"]
     duties = lines[ahead + len(works.crew):]
